@@ -1,0 +1,1 @@
+"""Cornerlines: lines drawn on whole corners."""

@@ -1,0 +1,47 @@
+"""The document's interface: where each name stands, and what it takes."""
+
+import ast
+import importlib
+import inspect
+import unittest
+from pathlib import Path
+
+PACKAGE = Path(__file__).resolve().parent.parent / "cornerlines"
+FUNCTIONS = {
+    "lines": {
+        "is_grain": "thing", "is_point": "thing", "is_line": "thing", "are_lines": "thing", "corner_of": "grain point",
+    },
+    "spots": {"is_spot": "thing", "spot_of": "n m d", "corner_at": "grain spot"},
+    "texts": {"show_lines": "grain lines", "read_lines": "text", "show_paths": "paths", "read_paths": "text"},
+    "crossing": {"common": "one other", "common_paper": "one other"},
+}
+CLASSES = {
+    "errors": "DrawError NoText NoNumber TooMany NoName Taken NoLine NoBack NoRow Used".split(),
+}
+
+
+class InterfaceTest(unittest.TestCase):
+    def defined(self, module, kind):
+        tree = ast.parse((PACKAGE / f"{module}.py").read_text(encoding="utf-8"))
+        return [node.name for node in tree.body if isinstance(node, kind)]
+
+    def test_functions(self):
+        for module, rows in FUNCTIONS.items():
+            names = self.defined(module, ast.FunctionDef)
+            for name, arguments in rows.items():
+                self.assertIn(name, names, module)
+                call = getattr(importlib.import_module(f"cornerlines.{module}"), name)
+                told = inspect.signature(call).parameters
+                self.assertEqual(" ".join(told), arguments, name)
+                for parameter in told.values():
+                    self.assertIs(parameter.default, inspect.Parameter.empty, name)
+
+    def test_classes(self):
+        for module, rows in CLASSES.items():
+            names = self.defined(module, ast.ClassDef)
+            for name in rows:
+                self.assertIn(name, names, module)
+
+
+if __name__ == "__main__":
+    unittest.main()

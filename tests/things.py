@@ -1,0 +1,54 @@
+"""Things of any kind, and what tests do with them."""
+
+from copy import deepcopy
+
+GREAT = 10 ** 40 - 1
+
+
+def nested(depth, kind):
+    """A thing so deep."""
+    thing = 1
+    for step in range(depth):
+        thing = {"tuple": (thing,), "list": [thing], "dict": {"a": thing}}[kind]
+    return thing
+
+
+def anything():
+    """Things that are no line, point, path or paper, made anew each time."""
+    return [
+        None, True, False, 0, 1, -1, GREAT, -GREAT, "", "a", "apart", "meets", "grain 1", "0 0",
+        "x" * 4000, "\n" * 4000, [], {}, [0, 0], {0: 0}, {"a": 1}, [[0, 0], [1, 1]], [(0, 0), (1, 1)],
+        {(0, 0): (1, 1)}, ("",), ("a", "b"), (None,), (None, None), (True,), ([],), ({},), ((),),
+        ((), ()), (((),),), ("apart",), ("meets",), ("along",), ("misses",), (GREAT,), (1,) * 10000,
+        ("apart", 1, 0), ("meets", 0, 1), tuple(range(10000)), [0] * 10000,
+        nested(40, "tuple"), nested(40, "list"), nested(40, "dict"),
+    ]
+
+
+def spoilt(paper):
+    """What comes of a paper where a part is left out, told twice or of another kind."""
+    told = [list(paper), {0: paper}, (paper,), paper + (0,), paper + (None,), paper + paper[-1:]]
+    for k, part in enumerate(paper):
+        told.append(paper[:k] + paper[k + 1:])
+        for other in (None, True, False, "1", "", "a", [part], (part,), {"a": part}, nested(40, "list")):
+            if other is not part:
+                told.append(paper[:k] + (other,) + paper[k + 1:])
+    return told
+
+
+def is_plain(thing):
+    """Whether this is of texts, whole numbers, truths, None and tuples of these alone."""
+    if isinstance(thing, tuple):
+        return all(is_plain(part) for part in thing)
+    return thing is None or isinstance(thing, (str, int))
+
+
+def keeps(test, call, *things):
+    """What the call tells; it must tell it twice and leave what it is handed as it was."""
+    before = deepcopy(things)
+    told = call(*things)
+    again = call(*things)
+    test.assertEqual(repr(told), repr(again))
+    test.assertEqual(repr(things), repr(before))
+    test.assertTrue(is_plain(told))
+    return told
