@@ -141,15 +141,20 @@ def unwanted_by(grain, lines, corner, thing):
     return True
 
 
-def shares_by(grain, line, corner):
-    """Shares of the line, one at least of those that lie in the cell if any does, rising."""
+def rim_shares(grain, line, corner):
+    """The shares of the line's ends and of where it comes to a side's straight line, rising."""
     (x, y), (far_x, far_y) = line
     shares = {Fraction(0), Fraction(1)}
     for start, end, number in ((x, far_x, corner[0]), (y, far_y, corner[1])):
         for rim in (number - HALF, number + HALF):
             if start != end:
                 shares.add((rim * grain - start) / (end - start))
-    shares = sorted(share for share in shares if 0 <= share <= 1)
+    return sorted(share for share in shares if 0 <= share <= 1)
+
+
+def shares_by(grain, line, corner):
+    """Shares of the line, one at least of those that lie in the cell if any does, rising."""
+    shares = rim_shares(grain, line, corner)
     midways = [(low + high) / 2 for low, high in zip(shares, shares[1:])]
     shares = sorted(shares + midways)
     return [share for share in shares if corner_by(grain, *place_at(line, share)) == corner]

@@ -14,6 +14,14 @@ FUNCTIONS = {
     "spots": {"is_spot": "thing", "spot_of": "n m d", "corner_at": "grain spot"},
     "texts": {"show_lines": "grain lines", "read_lines": "text", "show_paths": "paths", "read_paths": "text"},
     "crossing": {"common": "one other", "common_paper": "one other"},
+    "commonchecks": {"common_holds": "one other thing"},
+    "wants": {"wants_of": "grain lines", "corners_of": "grain lines"},
+    "wantchecks": {
+        "unwanted_paper": "grain lines corner", "unwanted_holds": "grain lines corner thing",
+    },
+    "cells": {"meets": "grain line corner", "meets_paper": "grain line corner"},
+    "cellchecks": {"meets_holds": "grain line corner thing"},
+    "paths": {"is_path": "thing", "path_of": "grain line corners", "drawn": "grain lines"},
 }
 CLASSES = {
     "errors": "DrawError NoText NoNumber TooMany NoName Taken NoLine NoBack NoRow Used".split(),
