@@ -4,7 +4,7 @@ from cornerlines.rims import keeps_below, rims_of
 from cornerlines.shares import spot_at
 from cornerlines.spots import corner_at
 from cornerlines.steps import least_by, step_of, ways_across
-from cornerlines.wholes import lowest
+from cornerlines.wholes import greater_of, is_less, lesser_of, lowest
 
 
 def meets(grain, line, corner):
@@ -46,26 +46,11 @@ def shares_within(grain, line, corner):
         else:
             if step < 0:
                 near, far = -far, -near
-            first = later_of(first, (near, 2 * abs(step)))
-            last = sooner_of(last, (far, 2 * abs(step)))
-    if is_sooner(last, first):
+            first = greater_of(first, (near, 2 * abs(step)))
+            last = lesser_of(last, (far, 2 * abs(step)))
+    if is_less(last, first):
         return None
     return first, last
-
-
-def is_sooner(one, other):
-    """Whether the share one is less than the other one."""
-    return one[0] * other[1] < other[0] * one[1]
-
-
-def later_of(one, other):
-    """The greater one of two shares."""
-    return other if is_sooner(one, other) else one
-
-
-def sooner_of(one, other):
-    """The lesser one of two shares."""
-    return other if is_sooner(other, one) else one
 
 
 def misses_paper(grain, line, corner):

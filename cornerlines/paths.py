@@ -15,10 +15,14 @@ def is_path(thing):
 
 def path_of(grain, line, corners):
     """Those of the corners whose cells the line meets, in order along it."""
+    return in_order(line, [corner for corner in corners if meets(grain, line, corner)])
+
+
+def in_order(line, corners):
+    """The corners, whose cells the line meets, in order along it."""
     dx, dy = step_of(line)
-    met = [corner for corner in corners if meets(grain, line, corner)]
     # Neither number ever goes back against the line, so they tell the order.
-    return tuple(sorted(met, key=lambda place: (place[0] * dx, place[1] * dy)))
+    return tuple(sorted(corners, key=lambda corner: (corner[0] * dx, corner[1] * dy)))
 
 
 def drawn(grain, lines):

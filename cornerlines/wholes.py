@@ -28,3 +28,18 @@ def lowest(n, d):
 def nearest(n, d):
     """The whole number i with n / d from i - 1/2, which belongs to it, to i + 1/2; d is from 1 on."""
     return (2 * n + d) // (2 * d)
+
+
+def is_less(one, other):
+    """Whether n / d, d from 1 on, of the one is less than that of the other one."""
+    return one[0] * other[1] < other[0] * one[1]
+
+
+def greater_of(one, other):
+    """The greater one of two n / d, d from 1 on."""
+    return other if is_less(one, other) else one
+
+
+def lesser_of(one, other):
+    """The lesser one of two n / d, d from 1 on."""
+    return other if is_less(other, one) else one

@@ -22,6 +22,12 @@ FUNCTIONS = {
     "cells": {"meets": "grain line corner", "meets_paper": "grain line corner"},
     "cellchecks": {"meets_holds": "grain line corner thing"},
     "paths": {"is_path": "thing", "path_of": "grain line corners", "drawn": "grain lines"},
+    "pathchecks": {"path_paper": "grain line corners", "path_holds": "grain line corners path thing"},
+    "offs": {"off_of": "grain line path", "off_paper": "grain line path"},
+    "offchecks": {"off_holds": "grain line path off thing"},
+    "links": {"links_of": "paths"},
+    "planes": {"trouble_of": "paths"},
+    "sides": {"stretches": "one other", "passes": "one other", "sides_paper": "one other"},
 }
 CLASSES = {
     "errors": "DrawError NoText NoNumber TooMany NoName Taken NoLine NoBack NoRow Used".split(),

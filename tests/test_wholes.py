@@ -6,7 +6,9 @@ from math import gcd
 
 from cornerlines.papers import is_paper
 from cornerlines.shares import is_share, share_of, spot_at
-from cornerlines.wholes import are_wholes, greatest_parting, is_whole, lowest, nearest
+from cornerlines.wholes import (
+    are_wholes, greater_of, greatest_parting, is_less, is_whole, lesser_of, lowest, nearest,
+)
 from reference import place_at, spot_by
 from things import GREAT, anything
 
@@ -35,6 +37,15 @@ class WholesTest(unittest.TestCase):
             for d in range(1, 13):
                 told = Fraction(n, d)
                 self.assertEqual(lowest(n, d), (told.numerator, told.denominator))
+
+    def test_less_and_greater(self):
+        told = [(n, d) for n in range(-4, 5) for d in range(1, 5)]
+        for one in told:
+            for other in told:
+                low, high = sorted([Fraction(*one), Fraction(*other)])
+                self.assertIs(is_less(one, other), Fraction(*one) < Fraction(*other))
+                self.assertEqual(Fraction(*lesser_of(one, other)), low)
+                self.assertEqual(Fraction(*greater_of(one, other)), high)
 
     def test_nearest(self):
         for d in range(1, 9):
