@@ -4,8 +4,11 @@ Nothing here uses the program, so that both can be held against each other.
 """
 
 from fractions import Fraction
+from functools import cache
 
-from reference import HALF, are_numbers, common_by, is_row, meets_paper_by, place_at, share_by, shares_by
+from reference import (
+    HALF, are_numbers, common_by, is_row, meets_by, meets_paper_by, path_by, place_at, rim_shares, share_by, shares_by, wants_by,
+)
 
 
 def path_paper_by(grain, line, corners, path, thing):
@@ -133,3 +136,93 @@ def sides_by(one, other):
 def passes_by(one, other):
     """Those of the stretches that are passes."""
     return tuple((i, j) for i, j, first, last in sides_by(one, other) if {first, last} == {"left", "right"})
+
+
+@cache
+def bent_by(corners, one, other):
+    """What the link, gone this way, becomes when it is done again."""
+    return path_by(1, (one, other), corners)
+
+
+def again_by(corners, paths):
+    """The paths done again."""
+    told = []
+    for path in paths:
+        done = list(path[:1])
+        for one, other in zip(path, path[1:]):
+            done += bent_by(corners, one, other)[1:]
+        told.append(tuple(done))
+    return tuple(told)
+
+
+def doings_by(corners, paths):
+    """The paths behind each time that something came."""
+    told = []
+    while again_by(corners, paths) != paths:
+        paths = again_by(corners, paths)
+        told.append(paths)
+    return tuple(told)
+
+
+def unsettled_by(corners, paths):
+    """None, or the first link with the first corner whose cell it meets without ending there."""
+    for link in links_by(paths):
+        for corner in sorted(corners):
+            if corner not in link and meets_by(1, link, corner):
+                return link, corner
+    return None
+
+
+def becoming_by(corners, one, other):
+    """The paper of what becomes of the link, gone this way."""
+    path = bent_by(corners, one, other)
+    if path == (one, other):
+        return ("stays",)
+    return "bends", path, tuple(becoming_by(corners, *half) for half in zip(path, path[1:]))
+
+
+def round_by(paths, corner):
+    """The other ends of the links round the corner, against the clock from the right on."""
+    i, j = corner
+    ends = {end for link in links_by(paths) if corner in link for end in link} - {corner}
+    return tuple(sorted(ends, key=lambda end: angle_of(end[0] - i, end[1] - j)))
+
+
+def rim_by(x, y):
+    """How far round the rim of a cell this place is, seen from its middle, from the lower left point on."""
+    if y == -HALF:
+        return x + HALF
+    if x == HALF:
+        return 1 + y + HALF
+    return 3 - (x + HALF) if y == HALF else 4 - (y + HALF)
+
+
+@cache
+def drawn_by(grain, lines):
+    """(corners, paths) of the drawing of these lines."""
+    corners = tuple(corner for corner, wants in wants_by(grain, lines))
+    return corners, tuple(path_by(grain, line, corners) for line in lines)
+
+
+def leavings_by(grain, lines, corner):
+    """The leavings of a corner."""
+    corners, paths = drawn_by(grain, lines)
+    rows = []
+    for k, line in enumerate(lines):
+        for way, gone in enumerate((line, line[::-1])):
+            path = paths[k] if way == 0 else paths[k][::-1]
+            if corner not in path[:-1]:
+                continue
+            places = [place_at(gone, share) for share in rim_shares(grain, gone, corner)]
+            places = [(x / grain - corner[0], y / grain - corner[1]) for x, y in places]
+            x, y = [place for place in places if max(abs(number) for number in place) <= HALF][-1]
+            turned = angle_between((0, 0), (-x, -y), [end - start for start, end in zip(*gone)])
+            if HALF in (x, y):
+                turned = -turned % 4
+            rows.append((rim_by(x, y), turned, k, way, path[path.index(corner) + 1]))
+    return tuple(row[2:] for row in sorted(rows))
+
+
+def is_just_by(thing, told):
+    """Whether this is what is told, with no truth for a number and no list for a tuple."""
+    return repr(thing) == repr(told)

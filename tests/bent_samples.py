@@ -48,3 +48,23 @@ def along_a_row(many):
 def gone_back(paths):
     """Each of the paths from behind."""
     return tuple(path[::-1] for path in paths)
+
+
+def chain(many):
+    """(corners, paths) of one link that is done again so many times, each time with just one corner more."""
+    near, far = (0, 0), (1000, 401)
+    corners = [near, far]
+    while len(corners) < many + 2:
+        far = next_in_chain(far)
+        corners.append(far)
+    return tuple(sorted(corners)), ((near, corners[1]),)
+
+
+def next_in_chain(far):
+    """The farthest corner above the line from (0, 0), met by it so high that no lesser line meets it."""
+    x, y = far
+    for i in range(x - 1, 0, -1):
+        j = (2 * y * i + x) // (2 * x)
+        if 5 * (x * j - y * i) > 2 * x:
+            return i, j
+    raise ValueError("the chain is too long")

@@ -28,6 +28,14 @@ FUNCTIONS = {
     "links": {"links_of": "paths"},
     "planes": {"trouble_of": "paths"},
     "sides": {"stretches": "one other", "passes": "one other", "sides_paper": "one other"},
+    "sidechecks": {"sides_holds": "one other thing"},
+    "settling": {
+        "again": "corners paths", "doings": "corners paths", "settled": "corners paths", "unsettled": "corners paths",
+    },
+    "becoming": {"becoming": "corners one other"},
+    "becomechecks": {"becoming_holds": "corners one other thing"},
+    "rounds": {"round_of": "paths corner"},
+    "leaving": {"leavings": "grain lines corner"},
 }
 CLASSES = {
     "errors": "DrawError NoText NoNumber TooMany NoName Taken NoLine NoBack NoRow Used".split(),

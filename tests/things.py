@@ -36,6 +36,25 @@ def spoilt(paper):
     return told
 
 
+def spoilt_within(paper):
+    """What comes of a paper where one part, at any depth, is otherwise."""
+    if isinstance(paper, str):
+        words = ("stays", "bends", "left", "right", "end", "", paper + " ", paper.upper())
+        yield from (word for word in words if word != paper)
+    if isinstance(paper, int):
+        yield from (paper + 1, paper - 1, -paper - 3, GREAT, str(paper), bool(paper))
+    yield from (None, [paper], (paper,), {"a": paper}, True, nested(40, "tuple"))
+    if isinstance(paper, tuple):
+        yield from (list(paper), paper + (0,), paper + ((),), paper * 2 + (1,))
+        for k, part in enumerate(paper):
+            yield paper[:k] + paper[k + 1:]
+            yield paper[:k + 1] + paper[k:]
+            if k > 0 and paper[k - 1] != part:
+                yield paper[:k - 1] + (part, paper[k - 1]) + paper[k + 1:]
+            for other in spoilt_within(part):
+                yield paper[:k] + (other,) + paper[k + 1:]
+
+
 def is_plain(thing):
     """Whether this is of texts, whole numbers, truths, None and tuples of these alone."""
     if isinstance(thing, tuple):
