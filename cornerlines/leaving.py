@@ -11,11 +11,21 @@ from cornerlines.wholes import is_less
 def leavings(grain, lines, corner):
     """(k, way, the corner to which it goes on) of each line that leaves the corner, round the rim against the clock."""
     corners, paths = drawn(grain, lines)
+    return tuple([going for place, turned, going in leaving_rows(grain, lines, paths, corner)])
+
+
+def leaving_rows(grain, lines, paths, corner):
+    """(how far round the rim, its way seen from there, the leaving) of each leaving, in order."""
     rows = []
     for k, way, further in goings(paths, corner):
-        line = lines[k] if way == 0 else lines[k][::-1]
-        rows.append((*leaving_of(grain, line, corner), (k, way, further)))
-    return tuple([row[-1] for row in in_turn(rows, leaves_ahead)])
+        place, turned = leaving_of(grain, line_gone(lines, k, way), corner)
+        rows.append((place, turned, (k, way, further)))
+    return in_turn(rows, leaves_ahead)
+
+
+def line_gone(lines, k, way):
+    """Line k, gone the way 0 or 1."""
+    return lines[k] if way == 0 else lines[k][::-1]
 
 
 def goings(paths, corner):

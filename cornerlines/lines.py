@@ -2,6 +2,8 @@
 
 from cornerlines.wholes import are_wholes, is_whole, nearest
 
+MOST_LINES = 12
+
 
 def is_grain(thing):
     """Whether this is a whole number from 1 on."""

@@ -11,6 +11,11 @@ def halves_of(path):
     return tuple(zip(path, path[1:]))
 
 
+def halves_round(walk):
+    """The halves of a walk: each place with the next one, the last one with the first."""
+    return halves_of(walk + walk[:1])
+
+
 def link_of(one, other):
     """The link of two corners."""
     return (one, other) if one < other else (other, one)

@@ -1,7 +1,7 @@
 """Round a corner of paths: what it is linked to, in order."""
 
 from cornerlines.links import links_of
-from cornerlines.steps import step_of
+from cornerlines.places import way_between
 from cornerlines.turns import in_turn, is_ahead
 
 
@@ -11,6 +11,8 @@ def round_of(paths, corner):
     return round_by(corner, others)
 
 
-def round_by(corner, others):
-    """These other corners, gone round the corner against the clock from the right on."""
-    return tuple(in_turn(others, lambda one, other: is_ahead(step_of((corner, one)), step_of((corner, other)))))
+def round_by(place, others):
+    """These other places, gone round the place against the clock from the right on."""
+    rows = [(way_between(place, other), other) for other in others]
+    rows = in_turn(rows, lambda row, further: is_ahead(row[0], further[0]))
+    return tuple([other for way, other in rows])

@@ -36,9 +36,23 @@ FUNCTIONS = {
     "becomechecks": {"becoming_holds": "corners one other thing"},
     "rounds": {"round_of": "paths corner"},
     "leaving": {"leavings": "grain lines corner"},
+    "walks": {"walks_of": "paths", "walk_area": "walk"},
+    "lands": {"lands_of": "paths", "land_area": "land"},
+    "walkchecks": {"walks_holds": "paths thing"},
+    "knots": {"knots_of": "lines", "pieces_of": "lines"},
+    "straights": {"straight_walks": "lines", "straight_lands": "lines", "straight_area": "grain land"},
 }
 CLASSES = {
     "errors": "DrawError NoText NoNumber TooMany NoName Taken NoLine NoBack NoRow Used".split(),
+    "boards": ["Board"],
+}
+# Each class with its methods and what they take, itself first.
+METHODS = {
+    ("boards", "Board"): {
+        "__init__": "self grain", "put": "self line", "out": "self number", "turn": "self number line",
+        "lines": "self", "corners": "self", "wants": "self", "path": "self number", "came": "self", "went": "self",
+        "moved": "self",
+    },
 }
 
 
@@ -63,6 +77,15 @@ class InterfaceTest(unittest.TestCase):
             names = self.defined(module, ast.ClassDef)
             for name in rows:
                 self.assertIn(name, names, module)
+
+    def test_methods(self):
+        for (module, name), rows in METHODS.items():
+            made = getattr(importlib.import_module(f"cornerlines.{module}"), name)
+            for method, arguments in rows.items():
+                # In the class itself, not in one below it.
+                self.assertIn(method, vars(made), name)
+                told = inspect.signature(vars(made)[method]).parameters
+                self.assertEqual(" ".join(told), arguments, method)
 
 
 if __name__ == "__main__":

@@ -204,6 +204,24 @@ class LanguageTest(unittest.TestCase):
                 if isinstance(node, ast.Call) and isinstance(node.func, ast.Attribute):
                     self.assertIn(node.func.attr, METHODS | own, at(path, node.lineno))
 
+    def test_stars_in_calls(self):
+        for path, tree in self.each():
+            for node in ast.walk(tree):
+                if isinstance(node, ast.Call):
+                    for part in node.args:
+                        if isinstance(part, ast.Starred):
+                            self.assertIsInstance(part.value, (ast.Name, ast.Attribute), at(path, node.lineno))
+
+    def test_no_name_is_a_method_here_and_an_attribute_there(self):
+        methods, attributes = set(), set()
+        for path, tree in self.each():
+            for node in ast.walk(tree):
+                if isinstance(node, ast.ClassDef):
+                    methods |= {part.name for part in node.body if isinstance(part, ast.FunctionDef)}
+                if isinstance(node, ast.Attribute) and not isinstance(node.ctx, ast.Load):
+                    attributes.add(node.attr)
+        self.assertEqual(methods & attributes, set())
+
     def test_imports(self):
         defined, wanted = {}, {}
         for path, tree in self.each():
