@@ -2,6 +2,7 @@
 
 from random import Random
 
+from bent_samples import SHEARS, sheared, some_paths
 from samples import MILLION, some_lines
 
 
@@ -104,6 +105,30 @@ def near_lines(many, far, seed):
             lines.append((a, b))
             ends.append(((a[0] + b[0]) // 2, (a[1] + b[1]) // 2))
     return tuple(lines)
+
+
+def any_planes():
+    """Paths of one plane here and there, and elsewhere."""
+    for seed in range(40):
+        for wide, long in ((3, 6), (5, 12), (9, 20), (16, 7)):
+            paths = some_paths(1 + seed % 9, wide, long, seed)
+            yield paths
+            yield sheared(paths, SHEARS[seed % len(SHEARS)])
+
+
+def twelve_lines():
+    """(grain, lines), of twelve lines each."""
+    for grain, far in ((1, 3), (2, 5), (10, 40), (1000, MILLION), (1, MILLION)):
+        yield grain, tuple(some_lines(12, far, grain))
+        yield grain, long_lines(12, far, grain)
+
+
+def some_drawings():
+    """(grain, lines), of five to seven lines near one another."""
+    for seed in range(16):
+        for many, far, grain in ((5, 3, 1), (6, 5, 2), (7, 9, 4), (6, 40, 10), (7, 30, 6)):
+            yield grain, tuple(some_lines(many, far, seed))
+            yield grain, near_lines(many, far, seed)
 
 
 # Lines by the grain 10, with how many straight lands they have.

@@ -41,10 +41,16 @@ FUNCTIONS = {
     "walkchecks": {"walks_holds": "paths thing"},
     "knots": {"knots_of": "lines", "pieces_of": "lines"},
     "straights": {"straight_walks": "lines", "straight_lands": "lines", "straight_area": "grain land"},
+    "sources": {"sources": "grain lines", "became": "grain lines"},
+    "bentwalks": {"bent_walk": "grain lines walk"},
+    "asks": {"where": "paths grain spot"},
+    "findings": {"finding_holds": "thing"},
 }
 CLASSES = {
     "errors": "DrawError NoText NoNumber TooMany NoName Taken NoLine NoBack NoRow Used".split(),
     "boards": ["Board"],
+    "stands": ["Stand"],
+    "desk": ["Desk"],
 }
 # Each class with its methods and what they take, itself first.
 METHODS = {
@@ -53,6 +59,12 @@ METHODS = {
         "lines": "self", "corners": "self", "wants": "self", "path": "self number", "came": "self", "went": "self",
         "moved": "self",
     },
+    ("stands", "Stand"): {
+        "__init__": "self grain", "put": "self name point", "move": "self name point", "drop": "self name",
+        "join": "self name one other", "cut": "self name", "back": "self many", "points": "self", "lines": "self",
+        "deeds": "self", "drawing": "self", "path": "self name", "moved": "self",
+    },
+    ("desk", "Desk"): {"__init__": "self", "say": "self text"},
 }
 
 

@@ -3,14 +3,14 @@
 import unittest
 
 from bent_reference import links_by
-from bent_samples import SHEARS, gone_back, sheared, some_paths
+from bent_samples import SHEARS, gone_back, sheared
 from cornerlines.lands import land_area, lands_of
 from cornerlines.paths import drawn
 from cornerlines.settling import settled
 from cornerlines.walks import walk_area, walks_of
 from land_reference import bent_lands_by, land_area_by, parts_by
-from land_samples import BOX, PLANES, grid, long_grid, long_lines, nested, square
-from samples import DRAWINGS, GRAINS, MILLION, some_lines, turned_round
+from land_samples import BOX, PLANES, any_planes, grid, long_grid, nested, square, twelve_lines
+from samples import DRAWINGS, GRAINS, MILLION, turned_round
 from things import keeps
 
 INSIDE, OUTSIDE = ((0, 0), (10, 0), (10, 10), (0, 10)), ((0, 0), (0, 10), (10, 10), (10, 0))
@@ -129,11 +129,8 @@ class LandsTest(LandsCase):
             self.assertEqual([len(dots) for border, rims, dots in lands], [0] * deep + [1])
 
     def test_any_paths_of_one_plane(self):
-        for seed in range(40):
-            for wide, long in ((3, 6), (5, 12), (9, 20), (16, 7)):
-                paths = some_paths(1 + seed % 9, wide, long, seed)
-                self.check(paths)
-                self.check(sheared(paths, SHEARS[seed % len(SHEARS)]))
+        for paths in any_planes():
+            self.check(paths)
 
     def test_drawings(self):
         for lines in DRAWINGS:
@@ -142,11 +139,10 @@ class LandsTest(LandsCase):
                 self.assertEqual(lands_of(drawn(grain, turned_round(lines))[1]), lands_of(drawn(grain, lines)[1]))
 
     def test_twelve_lines(self):
-        for grain, far in ((1, 3), (2, 5), (10, 40), (1000, MILLION), (1, MILLION)):
-            for lines in (tuple(some_lines(12, far, grain)), long_lines(12, far, grain)):
-                corners, paths = drawn(grain, lines)
-                self.check(paths)
-                self.check(settled(corners, paths))
+        for grain, lines in twelve_lines():
+            corners, paths = drawn(grain, lines)
+            self.check(paths)
+            self.check(settled(corners, paths))
 
     def test_grids(self):
         self.assertEqual(len(self.check(grid(5, 2, 0))), 17)

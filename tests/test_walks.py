@@ -9,8 +9,8 @@ from cornerlines.rounds import round_of
 from cornerlines.settling import settled
 from cornerlines.walks import walk_area, walks_of
 from land_reference import area_by, halves_by, parts_by, walks_by
-from land_samples import BOX, PLANES, grid, long_grid, long_lines, nested, square
-from samples import DRAWINGS, GRAINS, MILLION, some_lines, turned_round
+from land_samples import BOX, PLANES, any_planes, grid, long_grid, nested, square, twelve_lines
+from samples import DRAWINGS, GRAINS, MILLION, turned_round
 from things import keeps
 
 
@@ -101,11 +101,8 @@ class WalksTest(WalksCase):
                              [sign * 8 * (10 - k) ** 2 for k in range(deep) for sign in (-1, 1)])
 
     def test_any_paths_of_one_plane(self):
-        for seed in range(40):
-            for wide, long in ((3, 6), (5, 12), (9, 20)):
-                paths = some_paths(1 + seed % 7, wide, long, seed)
-                self.check(paths)
-                self.check(sheared(paths, SHEARS[seed % len(SHEARS)]))
+        for paths in any_planes():
+            self.check(paths)
 
     def test_drawings(self):
         for lines in DRAWINGS:
@@ -114,11 +111,10 @@ class WalksTest(WalksCase):
                 self.assertEqual(walks_of(drawn(grain, turned_round(lines))[1]), walks_of(drawn(grain, lines)[1]))
 
     def test_twelve_lines(self):
-        for grain, far in ((1, 3), (2, 5), (10, 40), (1000, MILLION), (1, MILLION)):
-            for lines in (tuple(some_lines(12, far, grain)), long_lines(12, far, grain)):
-                corners, paths = drawn(grain, lines)
-                self.check(paths)
-                self.check(settled(corners, paths))
+        for grain, lines in twelve_lines():
+            corners, paths = drawn(grain, lines)
+            self.check(paths)
+            self.check(settled(corners, paths))
 
     def test_grids(self):
         self.assertEqual(len(self.check(grid(4, 1, 0))), 10)
