@@ -16,7 +16,7 @@ def doubled_area(walks):
 
 
 def is_within(walk, place):
-    """Whether the place, which lies on no half of the walk, lies within it."""
+    """Whether the place lies within the walk; it lies on no half of it, or none of the walk farther left."""
     crossed = [half for half in halves_round(walk) if lies_across(half, place)]
     return len(crossed) % 2 == 1
 
